@@ -1,0 +1,1 @@
+"""Rows of numbers whose squares come to so many times their product."""
