@@ -27,6 +27,12 @@ def must_hold(times, row):
         raise NoRow("the numbers are no row of these times")
 
 
+def must_have_place(row, place):
+    # Python would count a place below nought from the end.
+    if place < 0 or place >= len(row):
+        raise NoPlace("the row has no such place")
+
+
 # Callers have asked must_hold already, so that a row is proved once and not at each place.
 def exchanged(times, row, place):
     others = row[:place] + row[place + 1:]
@@ -35,9 +41,7 @@ def exchanged(times, row, place):
 
 def neighbour(times, row, place):
     must_hold(times, row)
-    # Python would count a place below nought from the end.
-    if place < 0 or place >= len(row):
-        raise NoPlace("the row has no such place")
+    must_have_place(row, place)
     return exchanged(times, row, place)
 
 
@@ -56,3 +60,7 @@ def order_key(row):
 
 def in_order(rows):
     return sorted(rows, key=order_key)
+
+
+def sized_at_most(rows, most):
+    return [row for row in rows if size(row) <= most]

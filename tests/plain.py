@@ -1,6 +1,6 @@
 """What the document says, written once more in the plainest way, to hold the program against."""
 
-from math import prod
+from math import isqrt, prod
 
 # Pairs of times and a list that is no row of them: a number, the order or the times are off,
 # or numbers below one are in it, among these some that fit the sum.
@@ -116,3 +116,82 @@ def long_rows():
             further = swapped(times, row, 0)[0]
         found.append((times, row))
     return found
+
+
+def deep_rows():
+    """For each start the last row within 400 figures, when the greatest two take turns.
+
+    These rows lie many hundred steps from their roots, and keep like numbers at their first places.
+    """
+    return [(times, turning_rows(times, start)[-1]) for times, start in STARTS]
+
+
+def turning_rows(times, start):
+    """The rows that the last place but one leads to, again and again, within 400 figures."""
+    found = [start]
+    further = swapped(times, start, len(start) - 2)[0]
+    while len(str(further[-1])) <= 400:
+        found.append(further)
+        further = swapped(times, further, len(start) - 2)[0]
+    return found
+
+
+def by_size(rows):
+    return sorted(rows, key=lambda row: (sum(row), row))
+
+
+def lesser_ones(times, row):
+    return [other for other in all_swapped(times, row) if sum(other) < sum(row)]
+
+
+def greater_ones(times, row):
+    """The neighbours of greater size, each once, in order."""
+    found = []
+    for other in all_swapped(times, row):
+        if sum(other) > sum(row) and other not in found:
+            found.append(other)
+    return by_size(found)
+
+
+def plain_way(times, row):
+    path = [row]
+    while lesser_ones(times, path[0]):
+        path.insert(0, lesser_ones(times, path[0])[0])
+    places = []
+    for here, there in zip(path, path[1:]):
+        fitting = [place for place in range(len(row)) if swapped(times, here, place)[0] == there]
+        places.append(min(fitting))
+    return path[0], places
+
+
+def rising_by_product(many, most, least=1):
+    """All lists of `many` numbers in order, from `least` on, with a product of at most `most`."""
+    if many == 0:
+        yield []
+        return
+    number = least
+    while number ** many <= most:
+        for rest in rising_by_product(many - 1, most // number, number):
+            yield [number] + rest
+        number += 1
+
+
+def wide_rows(times, many, most):
+    """All rows with a size of at most `most`, in order, found without neighbours or roots.
+
+    Let z be the greatest number, y the next, p the times times the product of all but z, and s
+    the sum of their squares. Then z and p - z have the product s, which is at most
+    (many - 1) * y * y; so p is at most z + (many - 1) * y and thus at most (many - 1) * most.
+    """
+    found = []
+    for others in rising_by_product(many - 1, (many - 1) * most // times):
+        factor = times * prod(others)
+        square = factor * factor - 4 * sum(number * number for number in others)
+        root = isqrt(max(square, 0))
+        if root * root != square:
+            continue
+        for greatest in {(factor - root) // 2, (factor + root) // 2}:
+            row = others + [greatest]
+            if greatest >= others[-1] and sum(row) <= most and times_for(row) == times:
+                found.append(row)
+    return by_size(found)

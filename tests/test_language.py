@@ -31,6 +31,10 @@ WORDS_OUT = re.compile(
     r"|ABCMeta|namedtuple|NamedTuple|TypedDict|TYPE_CHECKING|abstractmethod)\b"
     r"|dataclass|overload|contextmanager"
 )
+NAMES_OUT = """register mro elements open input version_info with_traceback add_note attrgetter breakpoint
+builtins compile copyright credits delattr dir eval exec exit gc getattr globals hasattr help id importlib
+license locals methodcaller os quit setattr super type vars sys format format_map sort""".split()
+WALKED_AT_ONCE = ("zip", "enumerate", "reversed", "range", "items", "keys", "values")
 PLAIN_NAME = re.compile(r"[A-Za-z][A-Za-z0-9_]*\Z")
 
 
@@ -118,6 +122,45 @@ class Trees(unittest.TestCase):
                         if isinstance(inner, ast.Name) and isinstance(inner.ctx, ast.Store):
                             self.assertNotIn(inner.id, top, name)
 
+    def test_names_that_are_not_used(self):
+        for name, tree in trees():
+            for each in bound_names(tree):
+                self.assertNotIn(each, NAMES_OUT, name)
+
+    def test_names_are_drawn_from_the_file_that_defines_them(self):
+        for name, tree in trees():
+            for module, each in drawn(tree):
+                self.assertIn(each, defined_in(module), name)
+
+    def test_no_two_files_draw_from_one_another(self):
+        sources_of = {name.removesuffix(".py"): {module for module, each in drawn(tree)} for name, tree in trees()}
+        while sources_of:
+            free = [name for name, modules in sources_of.items() if not modules & set(sources_of)]
+            self.assertNotEqual(free, [], sources_of)
+            for name in free:
+                sources_of.pop(name)
+
+    def test_is_stands_beside_none_true_and_false_alone(self):
+        for name, tree in trees():
+            for node in ast.walk(tree):
+                if isinstance(node, ast.Compare) and isinstance(node.ops[0], (ast.Is, ast.IsNot)):
+                    self.assertIsInstance(node.comparators[0], ast.Constant, (name, node.lineno))
+                    self.assertIn(repr(node.comparators[0].value), ("None", "True", "False"), (name, node.lineno))
+
+    def test_what_is_walked_at_once_is_not_kept(self):
+        for name, tree in trees():
+            for node in ast.walk(tree):
+                if isinstance(node, (ast.Assign, ast.Return)) and isinstance(node.value, ast.Call):
+                    called = node.value.func
+                    word = called.id if isinstance(called, ast.Name) else called.attr
+                    self.assertNotIn(word, WALKED_AT_ONCE, (name, node.lineno))
+
+    def test_files_keep_nothing_that_changes(self):
+        for name, tree in trees():
+            for node in tree.body:
+                if isinstance(node, ast.Assign):
+                    self.assertIsInstance(node.value, (ast.Constant, ast.Tuple), (name, node.lineno))
+
     def test_functions(self):
         for name, tree in trees():
             for node in ast.walk(tree):
@@ -147,6 +190,19 @@ class Trees(unittest.TestCase):
                     self.assertEqual(len(node.generators), 1, (name, node.lineno))
                 if isinstance(node, (ast.For, ast.While)):
                     self.assertEqual(node.orelse, [], (name, node.lineno))
+
+
+def drawn(tree):
+    """Pairs of a file's plain name and a name that is drawn from it."""
+    return [
+        (node.module.removeprefix("sumtimes."), each.name)
+        for node in ast.walk(tree) if isinstance(node, ast.ImportFrom) for each in node.names
+    ]
+
+
+def defined_in(module):
+    tree = ast.parse((PACKAGE / (module + ".py")).read_text())
+    return [each for node in tree.body if not isinstance(node, ast.ImportFrom) for each in top_names(node)]
 
 
 def top_names(node):
